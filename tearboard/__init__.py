@@ -1,0 +1,1 @@
+"""Tearboard: notes torn off pads by figures that bar one another."""
