@@ -2,6 +2,7 @@
 
 import ast
 import builtins
+import functools
 import pathlib
 import re
 import unittest
@@ -41,8 +42,18 @@ BARRED_NODES = (
     ast.Global, ast.AsyncFunctionDef, ast.AsyncFor, ast.AsyncWith, ast.Await, ast.Import, ast.Div, ast.MatMult,
 )
 GREEDY = {"any", "all", "min", "max", "sum", "sorted"}
+# L23
+AT_ONCE = {"zip", "enumerate", "reversed", "range", "items", "keys", "values"}
+TAKERS = {"list", "tuple", "dict", "sorted", "sum", "any", "all", "enumerate", "zip", "min", "max"}
+MODIFYING = {
+    "append", "clear", "extend", "insert", "pop", "remove", "reverse", "setdefault", "update", "add", "discard", "sort",
+}
+# L22: keywords of builtins
+KEYWORDS = {"sorted": {"key", "reverse"}, "min": {"key", "default"}, "max": {"key", "default"}, "sum": {"start"},
+            "enumerate": {"start"}, "zip": {"strict"}}
 
 
+@functools.lru_cache
 def trees():
     return [(path, ast.parse(path.read_text(encoding="ascii"))) for path in FILES]
 
@@ -64,14 +75,39 @@ def bound_names(node):
     return []
 
 
+@functools.lru_cache
 def methods():
     return {
         item.name for path, node in nodes(ast.ClassDef) for item in node.body if isinstance(item, ast.FunctionDef)
     }
 
 
+@functools.lru_cache
 def stored_attributes():
     return {node.attr for path, node in nodes(ast.Attribute) if isinstance(node.ctx, ast.Store)}
+
+
+def called(node):
+    """The name of what is called; None where it is no call, or not by a name."""
+    if not isinstance(node, ast.Call):
+        return None
+    return getattr(node.func, "id", None) or getattr(node.func, "attr", None)
+
+
+def targets(comprehension):
+    """The names that a comprehension assigns."""
+    return {name for item in comprehension.generators for node in ast.walk(item.target) for name in bound_names(node)}
+
+
+def locals_of(function):
+    """The names that a function assigns by itself, not in a comprehension."""
+    bound, waiting = set(), [*function.args.args, *function.args.kwonlyargs, *function.body]
+    while waiting:
+        node = waiting.pop()
+        bound |= set(bound_names(node))
+        if not isinstance(node, (ast.ListComp, ast.DictComp, ast.SetComp, ast.GeneratorExp)):
+            waiting += list(ast.iter_child_nodes(node))
+    return bound
 
 
 class Files(unittest.TestCase):
@@ -204,6 +240,75 @@ class Code(unittest.TestCase):
     def test_raise_makes_its_error_on_the_spot(self):
         for path, node in nodes(ast.Raise):
             self.assertIsInstance(node.exc, (ast.Call, type(None)), (path, node.lineno))
+
+    def test_iterated_at_once(self):
+        for path, tree in trees():
+            allowed = set()
+            for node in ast.walk(tree):
+                if isinstance(node, (ast.For, ast.comprehension)):
+                    allowed.add(node.iter)
+                if isinstance(node, ast.Call) and called(node) in TAKERS:
+                    allowed |= set(node.args)
+            for node in ast.walk(tree):
+                if isinstance(node, ast.Call) and called(node) in AT_ONCE:
+                    self.assertIn(node, allowed, (path, node.lineno))
+
+    def test_loops_leave_what_they_iterate_over(self):
+        for path, node in nodes(ast.For):
+            given = node.iter.args if isinstance(node.iter, ast.Call) else [node.iter]
+            held = {ast.dump(item) for item in given if isinstance(item, (ast.Name, ast.Attribute))}
+            for item in [inner for row in node.body for inner in ast.walk(row)]:
+                changed = None
+                if isinstance(item, ast.Call) and isinstance(item.func, ast.Attribute) and item.func.attr in MODIFYING:
+                    changed = item.func.value
+                if isinstance(item, ast.Subscript) and not isinstance(item.ctx, ast.Load):
+                    changed = item.value
+                self.assertFalse(changed is not None and ast.dump(changed) in held, (path, node.lineno))
+
+    def test_keywords_of_builtins(self):
+        for path, node in nodes(ast.Call):
+            if isinstance(node.func, ast.Name) and hasattr(builtins, node.func.id):
+                named = {keyword.arg for keyword in node.keywords}
+                self.assertLessEqual(named, KEYWORDS.get(node.func.id, set()), (path, node.lineno))
+
+    def test_no_sort_and_no_stored_sets(self):
+        for path, node in nodes(ast.Call):
+            self.assertNotEqual(called(node), "sort", (path, node.lineno))
+        for path, node in nodes(ast.Set, ast.SetComp, ast.Try, ast.Match, ast.With, ast.Yield, ast.NamedExpr):
+            self.fail(f"{path}:{node.lineno}: not needed so far")
+
+    def test_what_double_underscore_methods_return(self):
+        for path, node in nodes(ast.FunctionDef):
+            told = [item.value for item in ast.walk(node) if isinstance(item, ast.Return)]
+            if node.name == "__init__":
+                self.assertEqual(told, [])
+            if node.name in ("__len__", "__str__", "__repr__"):
+                self.assertIsInstance(node.body[-1], ast.Return)
+                good = {"len"} if node.name == "__len__" else {"str", "repr", "join"}
+                for item in told:
+                    plain = isinstance(item, (ast.Constant, ast.JoinedStr))
+                    self.assertTrue(plain or called(item) in good, (path, node.lineno))
+            if node.name in ("__len__", "__str__", "__repr__", "__eq__"):
+                for item in ast.walk(node):
+                    self.assertNotIsInstance(item, (ast.Assign, ast.AugAssign, ast.Delete), (path, node.lineno))
+
+    def test_stars_in_calls_stand_before_names(self):
+        for path, node in nodes(ast.Call):
+            for given in node.args:
+                if isinstance(given, ast.Starred):
+                    self.assertIsInstance(given.value, ast.Name, (path, node.lineno))
+
+    def test_comprehensions_in_comprehensions_have_names_of_their_own(self):
+        kinds = (ast.ListComp, ast.DictComp, ast.SetComp, ast.GeneratorExp)
+        for path, function in nodes(ast.FunctionDef):
+            for outer in [node for node in ast.walk(function) if isinstance(node, kinds)]:
+                for inner in [node for node in ast.walk(outer) if isinstance(node, kinds) and node != outer]:
+                    self.assertFalse(targets(inner) & (targets(outer) | locals_of(function)), (path, inner.lineno))
+
+    def test_defaults_are_plain(self):
+        for path, node in nodes(ast.arguments):
+            for worth in node.defaults + [item for item in node.kw_defaults if item is not None]:
+                self.assertIsInstance(worth, (ast.Constant, ast.Name, ast.Tuple), (path, worth.lineno))
 
     def test_every_function_and_class_is_explained(self):
         for path, node in nodes(ast.FunctionDef, ast.ClassDef):

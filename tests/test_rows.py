@@ -3,34 +3,13 @@
 import itertools
 import unittest
 
+from model import plain_least, unrolled
 from refusing import Refusing
 from tearboard import rows
 from tearboard.errors import NoNote
 from tearboard.rows import behind, least_row, note_at
 
 HUGE = 10 ** 30 - 1
-
-
-def unrolled(lead, turn, many):
-    """The first notes of a row, at most so many."""
-    notes = list(lead)
-    while turn and len(notes) < many:
-        notes += list(turn)
-    return notes[:many]
-
-
-def plain_least(lead, turn):
-    """The least row by trying every shorter round, then every shorter lead."""
-    if not turn:
-        return tuple(lead), ()
-    many = 3 * (len(lead) + 2 * len(turn))
-    notes = unrolled(lead, turn, many)
-    for size in range(1, len(turn) + 1):
-        for ahead in range(len(lead) + 1):
-            some = notes[:ahead], notes[ahead:ahead + size]
-            if unrolled(*some, many) == notes:
-                return tuple(some[0]), tuple(some[1])
-    raise AssertionError("the row itself is always found")
 
 
 def small_rows():
