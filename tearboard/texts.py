@@ -68,7 +68,12 @@ def read_triple(text):
 
 
 def read_number(text):
-    """The number of a text that has no needless nought and at most four figures."""
-    if not text.isdigit() or len(text) > MOST_DIGITS or str(int(text)) != text:
+    """The number of a text that is written as one."""
+    if not is_number(text):
         raise BadText(0)
     return int(text)
+
+
+def is_number(text):
+    """Whether a text is a number without a needless nought and of at most four figures."""
+    return text.isdigit() and len(text) <= MOST_DIGITS and str(int(text)) == text

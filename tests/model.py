@@ -86,6 +86,24 @@ def pads_of(shape):
     return {pad for pad, note, depth in shape}
 
 
+def meeting(book, one, other):
+    return bool(pads_of(book.shape(one)) & pads_of(book.shape(other)))
+
+
+def rows_of_heap(book, row):
+    """All rows to which a row leads by exchanging neighbours that are apart."""
+    found, waiting = {tuple(row)}, [tuple(row)]
+    while waiting:
+        some = waiting.pop()
+        for at in range(len(some) - 1):
+            if not meeting(book, some[at], some[at + 1]):
+                other = some[:at] + (some[at + 1], some[at]) + some[at + 2:]
+                if other not in found:
+                    found.add(other)
+                    waiting.append(other)
+    return found
+
+
 def parts(many, figures):
     """The parts by growing each pad's set of pads till it grows no more."""
     found = []

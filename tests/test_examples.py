@@ -1,12 +1,15 @@
-"""The document's examples of the files that are built."""
+"""The document's examples."""
 
 import unittest
 
 from refusing import Refusing
 from tearboard.board import Board
 from tearboard.books import Book
+from tearboard.counts import clear, fillings_torn, mean
+from tearboard.desk import Desk
 from tearboard.errors import BadText, Meeting, NeverClear, NotStanding
 from tearboard.heaps import Heap
+from tearboard.pages import page
 from tearboard.rows import least_row
 from tearboard.texts import read_row
 
@@ -69,8 +72,23 @@ class Examples(Refusing):
         self.assertEqual(read_row("0(12)"), ((0,), (1, 2)))
         self.refuses(BadText, {"at": 0}, read_row, "02(12)")
 
+    def test_clear(self):
+        self.assertEqual(clear(Book([2], figures=[((0, 0, 2),)]), [2]), 2)
+
+    def test_fillings_torn(self):
+        self.assertEqual(fillings_torn(Book([2], figures=[((0, 0, 2),)]), [2]), {(0,): 2, (2,): 2})
+
+    def test_mean(self):
+        self.assertEqual(mean(Book([2], figures=[((0, 0, 1),)]), [[1, 2]], 0), (1, 2))
+
     def test_page_of_a_board(self):
+        self.assertEqual(page(self.board), "2,3 / 0:1*2 1:0 / 1:2\n101\n02\n")
         self.assertEqual(str(self.board), "2,3 / 0:1*2 1:0 / 1:2\n101\n02\n")
+
+    def test_desk(self):
+        desk = Desk(self.board)
+        first = desk.say("tear 0")
+        self.assertEqual([first, desk.say("pad 0"), desk.say("tear 0")], ["done", "1", "no NotStanding"])
 
 
 if __name__ == "__main__":

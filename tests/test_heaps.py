@@ -4,7 +4,7 @@ import itertools
 import math
 import unittest
 
-from model import chance_book, pads_of, seeded
+from model import chance_book, meeting, pads_of, rows_of_heap, seeded
 from refusing import Refusing
 from tearboard import heaps
 from tearboard.books import Book
@@ -17,24 +17,6 @@ CHAIN = Book([2, 2, 2], figures=[((0, 0, 2),), ((0, 1, 1), (1, 0, 3)), ((1, 1, 1
 APART = Book([1, 1, 1], figures=[((0, 0, 1),), ((1, 0, 1),), ((2, 0, 1),)])
 SMALL = Book([2, 2], figures=[((0, 0, 1),), ((0, 1, 1), (1, 0, 2)), ((1, 1, 1),)])
 EMPTY = Book([1])
-
-
-def meeting(book, one, other):
-    return bool(pads_of(book.shape(one)) & pads_of(book.shape(other)))
-
-
-def rows_of_heap(book, row):
-    """All rows to which a row leads by exchanging neighbours that are apart."""
-    found, waiting = {tuple(row)}, [tuple(row)]
-    while waiting:
-        some = waiting.pop()
-        for at in range(len(some) - 1):
-            if not meeting(book, some[at], some[at + 1]):
-                other = some[:at] + (some[at + 1], some[at]) + some[at + 2:]
-                if other not in found:
-                    found.add(other)
-                    waiting.append(other)
-    return found
 
 
 def plain_layers(book, row):

@@ -274,8 +274,42 @@ class Code(unittest.TestCase):
     def test_no_sort_and_no_stored_sets(self):
         for path, node in nodes(ast.Call):
             self.assertNotEqual(called(node), "sort", (path, node.lineno))
-        for path, node in nodes(ast.Set, ast.SetComp, ast.Try, ast.Match, ast.With, ast.Yield, ast.NamedExpr):
+        for path, node in nodes(ast.Set, ast.SetComp, ast.Match, ast.With, ast.Yield, ast.NamedExpr):
             self.fail(f"{path}:{node.lineno}: not needed so far")
+
+    def test_only_own_errors_are_caught_around_one_call(self):
+        own = {name for node in dict(trees())[PACKAGE / "errors.py"].body for name in bound_names(node)}
+        for path, node in nodes(ast.Try):
+            self.assertFalse(node.finalbody or node.orelse, (path, node.lineno))
+            self.assertEqual(len(node.body), 1, (path, node.lineno))
+            self.assertIsInstance(node.body[0].value, ast.Call, (path, node.lineno))
+            for handler in node.handlers:
+                caught = handler.type.elts if isinstance(handler.type, ast.Tuple) else [handler.type]
+                self.assertLessEqual({item.id for item in caught}, own, (path, node.lineno))
+
+    def test_powers_have_literal_exponents(self):
+        for path, node in nodes(ast.BinOp):
+            if isinstance(node.op, ast.Pow):
+                self.assertIsInstance(node.right, ast.Constant, (path, node.lineno))
+                self.assertIn(node.right.value, range(65), (path, node.lineno))
+
+    def test_no_two_lambdas_stand_on_one_line(self):
+        lines = [(path, node.lineno) for path, node in nodes(ast.Lambda)]
+        self.assertEqual(len(lines), len(set(lines)))
+
+    def test_tables_of_functions_are_called_by_a_name(self):
+        for path, node in nodes(ast.Call):
+            self.assertIsInstance(node.func, (ast.Name, ast.Attribute), (path, node.lineno))
+
+    def test_attributes_are_assigned_through_local_names(self):
+        for path, node in nodes(ast.Attribute):
+            if isinstance(node.ctx, ast.Store):
+                self.assertIsInstance(node.value, ast.Name, (path, node.lineno))
+
+    def test_no_attribute_bears_a_name_of_builtin_values(self):
+        held = {name for kind in (str, int, list, dict, set, bytes, tuple) for name in dir(kind)}
+        self.assertEqual(stored_attributes() & held, set())
+        self.assertLessEqual((methods() & held) - DUNDER_METHODS, BUILTIN_METHODS)
 
     def test_what_double_underscore_methods_return(self):
         for path, node in nodes(ast.FunctionDef):
