@@ -4,9 +4,10 @@ from tearboard.deeds import check_pad, kept_behind_deed, lay_notes, least_rows
 from tearboard.deeds import rows_behind, rows_behind_deed, rows_behind_sweeps
 from tearboard.errors import BadNumber, NothingAgain, NothingBack
 from tearboard.heaps import Heap
+from tearboard.places import standing_on
 from tearboard.rows import note_at
 from tearboard.texts import book_text, row_text
-from tearboard.walks import lacking, standing_on, story_of, sweeps_till_clear, torn_counts
+from tearboard.walks import Walks, board_sweeps, lacking, story_of, torn_counts
 
 MOST_WALKED = 20000
 MOST_SWEEPS = 10 ** 15
@@ -17,13 +18,10 @@ class Board:
 
     def __init__(self, book, *, rows=None):
         self.owner = book
-        self.piles = least_rows(book, rows)
         self.past = []
         self.future = []
-        self.beginning = Heap(book)
-        # Whether all that is torn was asked for, with no deed, step back or step again since.
-        self.is_whole = False
         self.many_found = 0
+        self.stand(least_rows(book, rows), Heap(book), False)
 
     def put(self, pad, note):
         """Puts a note on top of a pad."""
@@ -57,7 +55,7 @@ class Board:
 
     def settle(self, *, most=MOST_WALKED):
         """Sweeps till the board is clear; tells what each sweep tore."""
-        sweeps = sweeps_till_clear(self.owner, self.piles, most)
+        sweeps = board_sweeps(self.walks, most)
         self.step(rows_behind_sweeps(self.owner, self.piles, sweeps), Heap(self.owner), False)
         return sweeps
 
@@ -98,7 +96,9 @@ class Board:
         """Has these rows from now on, and keeps this beginning."""
         self.piles = piles
         self.beginning = beginning
+        # Whether all that is torn was asked for, with no deed, step back or step again since.
         self.is_whole = is_whole
+        self.walks = Walks(self.owner, piles)
 
     def steps(self):
         """How many steps can be taken back, and how many done again."""
@@ -144,19 +144,19 @@ class Board:
     def story(self, pad, *, most=MOST_WALKED):
         """The story of the part that has this pad."""
         check_pad(self.owner, pad)
-        return story_of(self.owner, self.piles, pad, most)
+        return story_of(self.walks, pad, most)
 
     def torn_by(self, sweeps, *, most=MOST_WALKED):
         """For each figure how often it is torn in so many sweeps."""
         if not 0 <= sweeps <= MOST_SWEEPS:
             raise BadNumber(sweeps)
-        return torn_counts(self.owner, self.piles, sweeps, most)
+        return torn_counts(self.walks, sweeps, most)
 
     def heap(self, *, most=MOST_WALKED):
         """The heap of the figures that are torn till the board is clear."""
         if not self.is_whole:
-            row = lacking(self.owner, self.piles, self.beginning, most)
-            self.beginning = self.beginning.plus(Heap(self.owner, row))
+            row = lacking(self.walks, self.beginning, most)
+            self.beginning = Heap(self.owner, self.beginning.row() + row)
             self.is_whole = True
             self.many_found += len(row)
         return self.beginning

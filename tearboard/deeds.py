@@ -2,8 +2,9 @@
 
 from tearboard.errors import BadBeneath, BadDeed, BadNote, BadRow, Full, NoEnd, NoNote, NoPad, NotStanding
 from tearboard.heaps import Heap, beginning_of
+from tearboard.places import standing_on
 from tearboard.rows import MOST_LEAD, MOST_ROUND, behind, least_row, note_at
-from tearboard.walks import standing_on, sweeps_till_clear
+from tearboard.walks import Walks, board_sweeps
 
 # Each deed's word, and how many things its tuple has.
 KINDS = (
@@ -17,7 +18,7 @@ def rows_behind_deed(book, rows, deed, most):
         raise BadDeed()
     word, *given = deed
     if word == "settle":
-        return rows_behind_sweeps(book, rows, sweeps_till_clear(book, rows, most))
+        return rows_behind_sweeps(book, rows, board_sweeps(Walks(book, rows), most))
     action = ACTIONS[word]
     return action(book, rows, *given)
 
