@@ -42,14 +42,14 @@ class Book:
 
     def meet(self, one, other):
         """Whether two figures have a pad in common."""
-        return have_common_pad(self.shape(one), self.shape(other))
+        return mask_of(self.shape(one)) & mask_of(self.shape(other)) != 0
 
     def parts(self):
         """The rising lists of pads that figures tie to one another, by their first pads."""
-        groups = [[pad] for pad in range(len(self.palette))]
+        groups = [1 << pad for pad in range(len(self.palette))]
         for shape in self.shapes:
-            groups = united(groups, pads_of(shape))
-        return groups
+            groups = united(groups, mask_of(shape))
+        return sorted([pads_in(group) for group in groups])
 
     def apart_sets(self):
         """The rising tuples of figures of which no two meet, in a list that rises."""
@@ -157,9 +157,10 @@ def is_triple(colours, triple):
 
 def check_meetings(figures):
     """Refuses the first two figures that meet and do not bar one another."""
+    masks = [mask_of(figure) for figure in figures]
     for one, figure in enumerate(figures):
         for other in range(one + 1, len(figures)):
-            if have_common_pad(figure, figures[other]) and not bar(figure, figures[other]):
+            if masks[one] & masks[other] != 0 and not bar(figure, figures[other]):
                 raise Meeting(one, other)
 
 
@@ -182,14 +183,14 @@ def pads_of(figure):
     return [pad for pad, note, depth in figure]
 
 
-def share(some, others):
-    """Whether two lists of pads have one in common."""
-    return any([pad in others for pad in some])
+def mask_of(figure):
+    """The set of the pads that a figure has, as a number with a bit for each pad."""
+    return sum([1 << pad for pad, note, depth in figure])
 
 
-def have_common_pad(one, other):
-    """Whether two figures meet."""
-    return share(pads_of(one), pads_of(other))
+def pads_in(mask):
+    """The rising list of the pads of such a set."""
+    return [pad for pad in range(MOST_PADS) if mask >> pad & 1 == 1]
 
 
 def bar(one, other):
@@ -198,11 +199,11 @@ def bar(one, other):
     return any([wanted.get(pad, note) != note for pad, note, depth in other])
 
 
-def united(groups, pads):
-    """The groups of pads, rising, with all those made one that have some of these pads."""
-    touched = [group for group in groups if share(group, pads)]
-    others = [group for group in groups if not share(group, pads)]
-    return sorted(others + [sorted([pad for group in touched for pad in group])])
+def united(groups, mask):
+    """The groups of pads, each a set as of mask_of, with all those made one that have some of these pads."""
+    touched = [group for group in groups if group & mask != 0]
+    # Groups have no pad in common, so to add them up is to put them together.
+    return [group for group in groups if group & mask == 0] + [sum(touched)]
 
 
 def moved_figure(figure, places):

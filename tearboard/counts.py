@@ -1,13 +1,13 @@
 """Counts: fillings that are clear, ways to be torn, and chances of notes that are drawn by weights.
 
-All of them go through the sets of figures that are apart, those of an odd size taken away: figures that stand at once
-are apart, so where one stands or more the sets of those that stand cancel one another out, and only what is clear is
-left. For heaps it is the other way round: what the sets give, multiplied by what all heaps give, is just 1.
+What is clear is told by the sets of figures that are apart, those of an odd size taken away: figures that stand at
+once are apart, so where one stands or more the sets of those that stand cancel one another out, and only what is clear
+is left.
 """
 
-from tearboard.books import MOST_DEPTH
 from tearboard.errors import BadHeights, BadWeights, NoMean, TooMany
 from tearboard.heaps import Heap, product
+from tearboard.tables import numbers_of, torn_of_part, ways_of_part
 
 MOST_TABLE = 4000
 MOST_HEIGHT = 6
@@ -25,17 +25,19 @@ def ways_torn(book, taken):
     """How many rows of pairs take just these numbers of notes from the pads."""
     check_heights(book, taken)
     check_table(taken)
-    return ways_by_taken(book, taken)[tuple(taken)]
+    # Figures of unlike parts are apart, so rows of theirs come together in just one row.
+    return product([ways_of_part(book, part, taken) for part in book.parts()])
 
 
 def fillings_torn(book, heights):
     """From the numbers of notes that are torn from the pads to how many fillings of these heights they are torn of."""
     check_heights(book, heights)
     check_table(heights)
-    ways = ways_by_taken(book, heights)
-    clears = clear_by_heights(book, heights)
-    many = {taken: ways[taken] * clears[rest_of(heights, taken)] for taken in ways}
-    return {taken: many[taken] for taken in many if many[taken] > 0}
+    many = {0: 1}
+    for part in book.parts():
+        more = torn_of_part(book, part, heights)
+        many = {code + other: many[code] * more[other] for code in many for other in more}
+    return {numbers_of(code, book.pads()): many[code] for code in sorted(many)}
 
 
 def clear_weight(book, weights):
@@ -107,66 +109,6 @@ def fillings(book, heights):
     if min(heights) < 0:
         return 0
     return product([colours for colours, height in zip(book.colours(), heights) for at in range(height)])
-
-
-def ways_by_taken(book, heights):
-    """From all numbers up to these heights to how many rows of pairs take just them."""
-    spans = spans_of(heights)
-    steps = [(step, many) for step, many in steps_of(book, spans) if step > 0]
-    table = [0] * product(spans)
-    told = {}
-    for taken in all_up_to(heights):
-        place = place_in(spans, taken)
-        # Nothing is taken in one way; all else is told by what lies ahead of it.
-        ways = -sum([many * table[place - step] for step, many in steps]) if sum(taken) > 0 else 1
-        table[place] = ways
-        told[taken] = ways
-    return told
-
-
-def clear_by_heights(book, heights):
-    """From all numbers up to these heights to how many fillings of just them are clear."""
-    spans = spans_of(heights)
-    steps = steps_of(book, spans)
-    table = [0] * product(spans)
-    told = {}
-    for some in all_up_to(heights):
-        place = place_in(spans, some)
-        table[place] = fillings(book, some)
-        told[some] = sum([many * table[place - step] for step, many in steps])
-    return told
-
-
-def all_up_to(heights):
-    """The rising list of the tuples of numbers from 0 to each of the heights."""
-    told = [()]
-    for height in heights:
-        told = [some + (number,) for some in told for number in range(height + 1)]
-    return told
-
-
-def spans_of(heights):
-    """How much room a table has for each pad: numbers as far below nought as a figure's depth goes find a 0 there."""
-    return [MOST_DEPTH + height + 1 for height in heights]
-
-
-def place_in(spans, numbers):
-    """The place in a table of these spans that belongs to these numbers."""
-    return step_in(spans, [MOST_DEPTH + number for number in numbers])
-
-
-def step_in(spans, numbers):
-    """How many places of a table lie between some numbers and those that are less by these."""
-    step = 0
-    for span, number in zip(spans, numbers):
-        step = step * span + number
-    return step
-
-
-def steps_of(book, spans):
-    """The signed sets of a book as pairs of a step in a table and how many there are."""
-    terms = signed_sets(book)
-    return [(step_in(spans, taken), terms[taken]) for taken in terms if terms[taken] != 0]
 
 
 def signed_shares(book, weights):
