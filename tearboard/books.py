@@ -53,14 +53,13 @@ class Book:
 
     def apart_sets(self):
         """The rising tuples of figures of which no two meet, in a list that rises."""
-        chosen = [()]
-        for at in range(len(self.shapes)):
-            chosen = chosen + [some + (at,) for some in chosen if self.is_apart(at, some)]
-        return sorted(chosen)
-
-    def is_apart(self, figure, others):
-        """Whether a figure meets none of the others."""
-        return not any([self.meet(figure, other) for other in others])
+        chosen = [((), 0)]
+        for at in range(len(self.shapes) - 1, -1, -1):
+            mask = mask_of(self.shapes[at])
+            # Those that begin with this figure rise as what is behind it does, and all others but () begin later.
+            begun = [((at,) + some, held | mask) for some, held in chosen if held & mask == 0]
+            chosen = chosen[:1] + begun + chosen[1:]
+        return [some for some, held in chosen]
 
     def __len__(self):
         return len(self.shapes)

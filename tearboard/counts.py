@@ -1,13 +1,9 @@
-"""Counts: fillings that are clear, ways to be torn, and chances of notes that are drawn by weights.
+"""Counts: fillings that are clear, ways to be torn, and chances of notes that are drawn by weights."""
 
-What is clear is told by the sets of figures that are apart, those of an odd size taken away: figures that stand at
-once are apart, so where one stands or more the sets of those that stand cancel one another out, and only what is clear
-is left.
-"""
-
+from tearboard.books import mask_of
 from tearboard.errors import BadHeights, BadWeights, NoMean, TooMany
-from tearboard.heaps import Heap, product
-from tearboard.tables import numbers_of, torn_of_part, ways_of_part
+from tearboard.heaps import product
+from tearboard.tables import fitting, numbers_of, torn_of_part, ways_of_part
 
 MOST_TABLE = 4000
 MOST_HEIGHT = 6
@@ -17,8 +13,11 @@ MOST_WEIGHT = 999
 def clear(book, heights):
     """How many fillings of these heights are clear."""
     check_heights(book, heights)
-    terms = signed_sets(book)
-    return sum([terms[taken] * fillings(book, rest_of(heights, taken)) for taken in terms])
+    colours = book.colours()
+    stands = []
+    for shape in fitting(book, heights):
+        stands.append((mask_of(shape), 1, product([colours[pad] for pad, note, depth in shape])))
+    return clear_share(product([many for many, height in zip(colours, heights) for at in range(height)]), stands)
 
 
 def ways_torn(book, taken):
@@ -43,21 +42,23 @@ def fillings_torn(book, heights):
 def clear_weight(book, weights):
     """The chance, as a fraction, that the notes on top let no figure stand."""
     check_weights(book, weights)
-    all_clear = sum([share for some, share in signed_shares(book, weights)])
-    return lowest(all_clear, product([sum(drawn) for drawn in weights]))
+    whole = product([sum(drawn) for drawn in weights])
+    return lowest(clear_share(whole, stands_by_weight(book, weights)), whole)
 
 
 def mean(book, weights, figure):
     """How often a figure is torn in the mean, as a fraction."""
     check_weights(book, weights)
     book.shape(figure)
-    shares = signed_shares(book, weights)
-    all_clear = sum([share for some, share in shares])
+    whole = product([sum(drawn) for drawn in weights])
+    stands = stands_by_weight(book, weights)
+    all_clear = clear_share(whole, stands)
     if all_clear == 0:
         raise NoMean()
-    # Of the sets that have the figure only it is left where no other one stands, itself being of an odd size.
-    alone = -sum([share for some, share in shares if figure in some])
-    return lowest(alone, all_clear)
+    mask, some, all_there = stands[figure]
+    # Where it stands those that meet it are barred, so it stands alone where none that is apart from it stands.
+    beside = [stand for stand in stands if stand[0] & mask == 0]
+    return lowest(clear_share(whole // all_there * some, beside), all_clear)
 
 
 def check_heights(book, heights):
@@ -84,42 +85,27 @@ def check_weights(book, weights):
             raise BadWeights(pad)
 
 
-def sign_of(some):
-    """1 for a set of an even size, -1 for one of an odd size."""
-    return 1 if len(some) % 2 == 0 else -1
+def stands_by_weight(book, weights):
+    """For each figure its pads as of mask_of, how much by weight lets it stand there, and how much there is there."""
+    told = []
+    for shape in book.figures():
+        wanted = product([weights[pad][note] for pad, note, depth in shape])
+        told.append((mask_of(shape), wanted, product([sum(weights[pad]) for pad, note, depth in shape])))
+    return told
 
 
-def signed_sets(book):
-    """From numbers of notes taken to the sets of figures apart that take them, with any notes beneath, signed."""
-    terms = {}
-    for some in book.apart_sets():
-        taken = Heap(book, some).taken()
-        beneath = [max(many - 1, 0) for many in taken]
-        terms[taken] = terms.get(taken, 0) + sign_of(some) * fillings(book, beneath)
-    return terms
+def clear_share(whole, stands):
+    """How much of a whole lets no figure stand; stands has for each figure what stands_by_weight tells of it.
 
-
-def rest_of(heights, taken):
-    """The tuple of what is left of heights, perhaps less than nought."""
-    return tuple([height - many for height, many in zip(heights, taken)])
-
-
-def fillings(book, heights):
-    """How many fillings of these heights there are, clear or not; none where one is below nought."""
-    if min(heights) < 0:
-        return 0
-    return product([colours for colours, height in zip(book.colours(), heights) for at in range(height)])
-
-
-def signed_shares(book, weights):
-    """Pairs of each set of figures apart and how much of all that may be drawn on top lets it stand, signed."""
-    return [(some, sign_of(some) * share_of(book, weights, some)) for some in book.apart_sets()]
-
-
-def share_of(book, weights, some):
-    """How much, by weight, of all that may be drawn on top lets these figures stand."""
-    wanted = {pad: note for figure in some for pad, note, depth in book.shape(figure)}
-    return product([drawn[wanted[pad]] if pad in wanted else sum(drawn) for pad, drawn in enumerate(weights)])
+    It is gone through the sets of figures that are apart, those of an odd size taken away: figures that stand at once
+    are apart, so where some stand the sets of them cancel one another out. Only the pads that a set has are kept.
+    """
+    shares = {0: whole}
+    for mask, some, all_there in stands:
+        free = [held for held in shares if held & mask == 0]
+        for held in free:
+            shares[held | mask] = shares.get(held | mask, 0) - shares[held] // all_there * some
+    return sum(shares.values())
 
 
 def lowest(over, under):

@@ -1,5 +1,6 @@
-"""Tables at their bound, beside plain reckonings (point [12])."""
+"""Tables at their bound and books of many figures, beside plain reckonings (points [2] and [12])."""
 
+import fractions
 import itertools
 import math
 import unittest
@@ -7,9 +8,10 @@ import unittest
 from model import chance_book, seeded
 from refusing import Refusing
 from tearboard.books import Book
-from tearboard.counts import clear, fillings_torn, ways_torn
+from tearboard.counts import clear, clear_weight, fillings_torn, mean, ways_torn
+from tearboard.errors import NoMean
 from tearboard.tables import code_of, numbers_of
-from test_counts import RING, TIED, plain_torn
+from test_counts import RING, TIED, chance_weights, plain_torn
 
 # The numbers of a table that has just 4000 places.
 AT_THE_BOUND = [4, 4, 4, 3, 3, 1]
@@ -62,6 +64,14 @@ def one_colour_book(chance):
     cuts = sorted(chance.sample(range(7), chance.randint(1, 4)))
     groups = [sorted(pads[one:other]) for one, other in zip(cuts, cuts[1:])]
     return Book([1] * 6, figures=[tuple((pad, 0, chance.choice((1, 1, 2, 3))) for pad in some) for some in groups])
+
+
+def two_on_each_pad(chance):
+    """A book of twelve figures of one note, two on each of six pads of four colours."""
+    notes = [chance.sample(range(4), 2) for _ in range(6)]
+    figures = [((pad, note, chance.choice((1, 1, 2, 3))),) for pad in range(6) for note in notes[pad]]
+    chance.shuffle(figures)
+    return Book([4] * 6, figures=figures)
 
 
 class AtTheBound(Refusing):
@@ -119,6 +129,43 @@ class AtTheBound(Refusing):
             self.assertEqual(list(told), sorted(told))
             self.assertEqual({type(key) for key in told}, {tuple})
             self.assertEqual({len(key) for key in told}, {book.pads()})
+
+
+class TwelveFigures(Refusing):
+    def test_two_on_each_pad(self):
+        chance = seeded(203)
+        for _ in range(60):
+            book = two_on_each_pad(chance)
+            heights = [chance.randint(0, 6) for _ in range(6)]
+            depths = [[shape[0][2] for shape in book.figures() if shape[0][0] == pad] for pad in range(6)]
+            fits = [len([depth for depth in depths[pad] if depth <= heights[pad]]) for pad in range(6)]
+            clears = [4 ** height - few * 4 ** max(height - 1, 0) for height, few in zip(heights, fits)]
+            self.assertEqual(clear(book, heights), math.prod(clears))
+            self.assertEqual(len(book.apart_sets()), 3 ** 6)
+            self.assertEqual(book.apart_sets(), sorted(book.apart_sets()))
+            shallow = [shape[0][0] for shape in book.figures() if shape[0][2] == 1]
+            torn = fillings_torn(book, [1] * 6)
+            self.assertEqual(len(torn), 2 ** len(set(shallow)))
+            for taken, many in torn.items():
+                some = [shallow.count(pad) if taken[pad] == 1 else 4 - shallow.count(pad) for pad in range(6)]
+                self.assertEqual(many, math.prod(some))
+
+    def test_weights_on_each_pad(self):
+        chance = seeded(204)
+        for _ in range(60):
+            book = two_on_each_pad(chance)
+            weights = chance_weights(chance, book)
+            rest = [sum(some) for some in weights]
+            for ((pad, note, depth),) in book.figures():
+                rest[pad] -= weights[pad][note]
+            whole = fractions.Fraction(math.prod(rest), math.prod(sum(some) for some in weights))
+            self.assertEqual(clear_weight(book, weights), (whole.numerator, whole.denominator))
+            for figure, ((pad, note, depth),) in enumerate(book.figures()):
+                if whole == 0:
+                    self.refuses(NoMean, {}, mean, book, weights, figure)
+                else:
+                    alone = fractions.Fraction(weights[pad][note], rest[pad])
+                    self.assertEqual(mean(book, weights, figure), (alone.numerator, alone.denominator))
 
 
 class Codes(unittest.TestCase):
